@@ -1,0 +1,1 @@
+"""Alwaysmeet: lots of houses that always meet."""
