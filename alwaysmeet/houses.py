@@ -52,7 +52,7 @@ class Houses:
 
     def set_of(self, mask):
         """The set that has this mask, in the order of the houses."""
-        if not is_within(mask, 0, (1 << len(self.row)) - 1):
+        if not is_within(mask, 0, all_of(self)):
             raise NoNumber(mask)
         return [self.row[number] for number in numbers_of(mask)]
 
@@ -60,6 +60,11 @@ class Houses:
 def same_houses(one, other):
     """Whether two Houses have the same names in the same order."""
     return one.names() == other.names()
+
+
+def all_of(houses):
+    """The mask of all houses, the greatest one."""
+    return (1 << houses.size()) - 1
 
 
 def numbers_of(mask):

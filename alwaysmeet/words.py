@@ -49,11 +49,16 @@ def own_words():
     return list(OWN_WORDS)
 
 
-def number_in(text, low, high):
-    """The number from low to high that the text writes, or None."""
-    if not is_made_of(text, FIGURES, MOST_FIGURES):
+def plain_number(text, most):
+    """The number that a text of at most so many figures writes plainly, or None."""
+    if not is_made_of(text, FIGURES, most):
         return None
     if text[0] == "0" and text != "0":
         return None
-    number = int(text)
-    return number if low <= number <= high else None
+    return int(text)
+
+
+def number_in(text, low, high):
+    """The number from low to high that the text writes, or None."""
+    number = plain_number(text, MOST_FIGURES)
+    return number if is_within(number, low, high) else None

@@ -1,6 +1,7 @@
 """The package keeps to those rules of LANGUAGE.md that can be seen without running it."""
 
 import ast
+import functools
 import pathlib
 import re
 import unittest
@@ -26,16 +27,23 @@ BARRED_WORDS = set(
     "type typing typing_extensions enum Enum IntEnum StrEnum Flag IntFlag Generic Protocol ABC ABCMeta "
     "namedtuple NamedTuple TypedDict TYPE_CHECKING abstractmethod".split()
 )
+METHODS_OF_VALUES = set(
+    "append clear copy count endswith extend find get index insert isalnum isalpha isdigit islower isspace isupper "
+    "items join keys ljust lower lstrip partition pop remove replace reverse rfind rjust rpartition rsplit rstrip "
+    "setdefault split splitlines startswith strip update upper values zfill bit_length __init__".split()
+)
 
 
 def files():
     return sorted(PACKAGE.rglob("*.py"))
 
 
+@functools.lru_cache(maxsize=None)
 def nodes(path):
     return list(ast.walk(ast.parse(path.read_text())))
 
 
+@functools.lru_cache(maxsize=None)
 def all_nodes():
     return [(path.name, node) for path in files() for node in nodes(path)]
 
@@ -137,6 +145,140 @@ class Code(unittest.TestCase):
                     if isinstance(sign, (ast.Is, ast.IsNot)):
                         self.assertIsInstance(right, ast.Constant, (name, node.lineno))
                         self.assertIn(right.value, (None, True, False), (name, node.lineno))
+
+
+@functools.lru_cache(maxsize=None)
+def parents(path):
+    """Each node of a file behind the one that has it within."""
+    tree = ast.parse(path.read_text())
+    return [(node, part) for node in ast.walk(tree) for part in ast.iter_child_nodes(node)]
+
+
+def bound_at_top(path):
+    """What a file defines itself at module level."""
+    told = []
+    for node in ast.parse(path.read_text()).body:
+        if isinstance(node, (ast.FunctionDef, ast.ClassDef)):
+            told.append(node.name)
+        if isinstance(node, ast.Assign):
+            told.extend(target.id for target in node.targets)
+    return told
+
+
+def imports_of(path):
+    return [(node.module.split(".")[-1], alias.name) for node in nodes(path) if isinstance(node, ast.ImportFrom)
+            for alias in node.names]
+
+
+@functools.lru_cache(maxsize=None)
+def own_methods():
+    return set(part.name for name, node in all_nodes() if isinstance(node, ast.ClassDef)
+               for part in node.body if isinstance(part, ast.FunctionDef))
+
+
+@functools.lru_cache(maxsize=None)
+def own_fields():
+    return set(node.attr for name, node in all_nodes()
+               if isinstance(node, ast.Attribute) and isinstance(node.ctx, ast.Store))
+
+
+@functools.lru_cache(maxsize=None)
+def own_classes():
+    return set(node.name for name, node in all_nodes() if isinstance(node, ast.ClassDef))
+
+
+def called(node):
+    """The plain name of what is called, or None."""
+    return node.func.id if isinstance(node, ast.Call) and isinstance(node.func, ast.Name) else None
+
+
+class Whole(unittest.TestCase):
+    def test_module_level(self):  # L3, L15
+        for path in files():
+            bound = bound_at_top(path) + [name for file, name in imports_of(path)]
+            self.assertEqual(len(bound), len(set(bound)), path.name)
+            for node in ast.parse(path.read_text()).body:
+                self.assertIsInstance(
+                    node, (ast.Expr, ast.ImportFrom, ast.FunctionDef, ast.ClassDef, ast.Assign), path.name
+                )
+
+    def test_imports_name_the_file_that_defines(self):  # L16
+        for path in files():
+            for file, name in imports_of(path):
+                self.assertIn(name, bound_at_top(PACKAGE / f"{file}.py"), (path.name, file))
+
+    def test_no_two_files_import_from_each_other(self):  # L16
+        waiting = {path.stem: set(file for file, name in imports_of(path)) for path in files()}
+        while waiting:
+            free = [name for name in waiting if not waiting[name] & set(waiting)]
+            self.assertNotEqual(free, [], sorted(waiting))
+            for name in free:
+                del waiting[name]
+
+    def test_nothing_imported_lies_idle(self):
+        for path in files():
+            used = [node.id for node in nodes(path) if isinstance(node, ast.Name)]
+            for file, name in imports_of(path):
+                self.assertIn(name, used, path.name)
+
+    def test_locals_have_names_of_their_own(self):  # L15
+        for path in files():
+            taken = set(name for file, name in imports_of(path)) | own_classes()
+            for node in nodes(path):
+                if isinstance(node, ast.arg) or isinstance(node, ast.Name) and isinstance(node.ctx, ast.Store):
+                    self.assertEqual(set(names_bound(node)) & taken, set(), path.name)
+
+    def test_classes_are_no_values(self):  # L18
+        for path in files():
+            for node, part in parents(path):
+                if isinstance(part, ast.Name) and part.id in own_classes():
+                    good = isinstance(node, (ast.ClassDef, ast.ExceptHandler)) or called(node) == part.id
+                    good = good or called(node) == "isinstance" and node.args[0] != part
+                    good = good or isinstance(node, ast.Attribute) and node.attr == "__init__"
+                    good = good or isinstance(node, ast.Tuple)
+                    self.assertTrue(good, (path.name, part.lineno))
+
+    def test_attributes_are_assigned_somewhere(self):  # L18, L25
+        known = own_methods() | own_fields() | METHODS_OF_VALUES
+        for name, node in all_nodes():
+            if isinstance(node, ast.Attribute):
+                self.assertIn(node.attr, known, (name, node.lineno))
+
+    def test_own_names_are_none_of_plain_values(self):  # L26
+        taken = set()
+        for value in ("", 0, [], {}, set(), b""):
+            taken.update(dir(value))
+        self.assertEqual((own_methods() - set(METHODS)) & taken, set())
+        self.assertEqual(own_fields() & taken, set())
+
+    def test_what_is_caught(self):  # L19
+        free = own_classes() | {"KeyError", "ZeroDivisionError", "StopIteration"}
+        for name, node in all_nodes():
+            if isinstance(node, ast.ExceptHandler):
+                kinds = node.type.elts if isinstance(node.type, ast.Tuple) else [node.type]
+                self.assertLessEqual(set(kind.id for kind in kinds), free, (name, node.lineno))
+
+    def test_what_is_iterated_at_once(self):  # L23
+        takers = ("list", "tuple", "dict", "sorted", "sum", "any", "all", "enumerate", "zip", "min", "max")
+        for path in files():
+            for node, part in parents(path):
+                spot = called(part) in ("zip", "enumerate", "reversed", "range")
+                if isinstance(part, ast.Call) and isinstance(part.func, ast.Attribute):
+                    spot = spot or part.func.attr in ("items", "keys", "values")
+                if spot:
+                    good = isinstance(node, (ast.For, ast.comprehension)) and node.iter == part
+                    self.assertTrue(good or called(node) in takers, (path.name, part.lineno))
+
+    def test_where_sets_stand(self):  # L24
+        for path in files():
+            for node, part in parents(path):
+                if called(part) in ("set", "frozenset") or isinstance(part, (ast.Set, ast.SetComp)):
+                    self.assertIn(called(node), ("len", "sorted"), (path.name, part.lineno))
+
+    def test_keywords_of_builtins(self):  # L22
+        for name, node in all_nodes():
+            if called(node) in BUILTINS:
+                self.assertLessEqual(set(word.arg for word in node.keywords), {"key", "default"}, (name, node.lineno))
 
 
 if __name__ == "__main__":

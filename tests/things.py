@@ -1,9 +1,13 @@
 """What the tests share: things of every kind, and a way to look at refusals."""
 
+import itertools
+import random
 import unittest
 
 from alwaysmeet.errors import Apart, MeetError, NoHouse, NoUndo
 from alwaysmeet.houses import Houses
+from alwaysmeet.plans import Lots, Many, Tree
+from alwaysmeet.systems import System
 
 TWELVE = ["mill", "inn", "barn", "forge", "a", "zzzzzz", "well", "tower", "gate", "shop", "dock", "farm"]
 
@@ -25,6 +29,10 @@ def other_things():
         {"a": 1},
         {"mill": 0, "inn": 1},
         Houses(["a", "b"]),
+        System(["a", "b"], [["a"]]),
+        Lots(["mill", "inn"], [["mill"]]),
+        Many(1, ["mill", "inn"]),
+        Tree("mill"),
         MeetError("a"),
         NoHouse("a"),
         NoUndo(),
@@ -58,6 +66,30 @@ def rows():
 
 def texts():
     return ["", " ", "a", "mill", "Mill", "lots", "all", "0", "7", "-1", "a b", "a\n", "\n", "~", "x" * 61447]
+
+
+def all_sets(names):
+    """All sets of the houses, in the order of [3]."""
+    return [list(some) for many in range(len(names) + 1) for some in itertools.combinations(names, many)]
+
+
+def least_sets(names, decides):
+    """The least sets that decide, in order, found by going through all sets."""
+    sets = [set(some) for some in all_sets(names) if decides(some)]
+    return [[name for name in names if name in some] for some in sets if not any(one < some for one in sets)]
+
+
+def some_systems(many=60, houses=6):
+    """Systems of up to so many houses, ones at the edges among them, always the same ones."""
+    source = random.Random(7)
+    told = [System(["a"], []), System(["a"], [[]]), System(["a"], [["a"]]), System(["a"], [[], ["a"]])]
+    for turn in range(many):
+        names = TWELVE[:source.randint(1, houses)]
+        sets = all_sets(names)
+        lots = source.sample(sets, source.randint(0, min(len(sets), 8)))
+        # The set without houses would settle most questions, so it is left in only now and then.
+        told.append(System(names, [lot[::-1] for lot in lots if lot or turn % 5 == 0]))
+    return told
 
 
 class Refusals(unittest.TestCase):
