@@ -67,6 +67,17 @@ def all_of(houses):
     return (1 << houses.size()) - 1
 
 
+def told_mask(houses, thing):
+    """The mask of what stands as sets are told, a list in the order of the houses; else None."""
+    if not isinstance(thing, list):
+        return None
+    try:
+        mask = houses.mask(thing)
+    except (NoHouse, Twice):
+        return None
+    return mask if houses.set_of(mask) == thing else None
+
+
 def numbers_of(mask):
     """The numbers of the houses of a mask, rising."""
     numbers = []
