@@ -93,6 +93,14 @@ def sum_shares(shares):
     return total
 
 
+def over_one_bottom(shares):
+    """The tops of shares that are written over the least bottom that does for all, and this bottom."""
+    bottom = 1
+    for share in shares:
+        bottom = bottom // common(bottom, share[1]) * share[1]
+    return [top * (bottom // under) for top, under in shares], bottom
+
+
 def share_text(share):
     """The text of a share."""
     check_shares([share])

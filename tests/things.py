@@ -8,6 +8,7 @@ from alwaysmeet.errors import Apart, MeetError, NoHouse, NoUndo
 from alwaysmeet.houses import Houses
 from alwaysmeet.plans import Lots, Many, Tree
 from alwaysmeet.systems import System
+from alwaysmeet.twokinds import Two
 
 TWELVE = ["mill", "inn", "barn", "forge", "a", "zzzzzz", "well", "tower", "gate", "shop", "dock", "farm"]
 
@@ -33,6 +34,7 @@ def other_things():
         Lots(["mill", "inn"], [["mill"]]),
         Many(1, ["mill", "inn"]),
         Tree("mill"),
+        Two(System(["a", "b"], [["a"]]), System(["a", "b"], [["b", "a"]])),
         MeetError("a"),
         NoHouse("a"),
         NoUndo(),
@@ -66,6 +68,53 @@ def rows():
 
 def texts():
     return ["", " ", "a", "mill", "Mill", "lots", "all", "0", "7", "-1", "a b", "a\n", "\n", "~", "x" * 61447]
+
+
+def nearly_number(number):
+    yield from (number + 1, number - 1, -number, str(number), [number], 10**29)
+    if number in (0, 1):
+        yield number == 1
+
+
+def nearly_row(row):
+    """Lists or tuples that differ from this one in one place."""
+    yield list(row) if isinstance(row, tuple) else tuple(row)
+    yield from (row + row[:0].__class__(["a"]), row + row[:0].__class__([None]), dict(enumerate(row)))
+    if isinstance(row, tuple) and len(row) == 2 and all(type(part) is int for part in row):
+        yield (row[0] * 2, row[1] * 2)
+    for at in range(len(row)):
+        yield row[:at] + row[at + 1:]
+        yield row[:at + 1] + row[at:]
+        if at > 0:
+            yield row[:at - 1] + row[at:at + 1] + row[at - 1:at] + row[at + 1:]
+        for part in nearly(row[at]):
+            yield row[:at] + row[:0].__class__([part]) + row[at + 1:]
+
+
+def nearly_dict(told):
+    yield list(told.items())
+    yield list(told)
+    yield {**told, "x": (0, 1)}
+    yield {**told, 0: (0, 1)}
+    yield dict(reversed(told.items()))
+    for name in told:
+        yield {other: told[other] for other in told if other != name}
+        yield {(name.upper() if other == name else other): told[other] for other in told}
+        for part in nearly(told[name]):
+            yield {**told, name: part}
+
+
+def nearly(thing):
+    """Things that differ from this one in one place: by another kind, a number, an order, one less or more."""
+    yield from (None, True, [thing], (thing,), {"a": thing})
+    if isinstance(thing, str):
+        yield from (thing + "a", thing[1:], thing.upper(), "b", [thing], list(thing))
+    elif isinstance(thing, (list, tuple)):
+        yield from nearly_row(thing)
+    elif isinstance(thing, dict):
+        yield from nearly_dict(thing)
+    elif type(thing) is int:
+        yield from nearly_number(thing)
 
 
 def all_sets(names):
