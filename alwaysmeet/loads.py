@@ -1,7 +1,7 @@
 """Loads: which share of all askings goes to which lot, and how little the houses can be loaded."""
 
 from alwaysmeet.errors import NoDealing, NoLots, TooMany
-from alwaysmeet.fractions import is_share, less_than, over_one_bottom, sum_shares, times_share
+from alwaysmeet.fractions import is_share, less_than, over_one_bottom, share_of, sum_shares, times_share
 from alwaysmeet.games import most_gain
 from alwaysmeet.houses import in_order, told_mask
 
@@ -28,24 +28,17 @@ def is_dealing(system, thing):
     masks = [system.ground.mask(lot) for lot, share in thing]
     if len(set(masks)) < len(masks) or masks != in_order(masks):
         return False
-    return sum_shares([share for lot, share in thing]) == (1, 1)
-
-
-def greatest(shares):
-    """The greatest of some shares."""
-    found = (0, 1)
-    for share in shares:
-        if less_than(found, share):
-            found = share
-    return found
+    tops, bottom = over_one_bottom([share for lot, share in thing])
+    return sum(tops) == bottom
 
 
 def loads_by(system, dealing):
     """The load of each house by what is a dealing, and the greatest one."""
-    loads = {}
+    tops, bottom = over_one_bottom([share for lot, share in dealing])
+    sums = {}
     for name in system.houses():
-        loads[name] = sum_shares([share for lot, share in dealing if name in lot])
-    return loads, greatest(list(loads.values()))
+        sums[name] = sum([top for (lot, share), top in zip(dealing, tops) if name in lot])
+    return {name: share_of(top, bottom) for name, top in sums.items()}, share_of(max(sums.values()), bottom)
 
 
 def load_of(system, dealing):

@@ -255,8 +255,11 @@ def has_form(thing):
 
 def tree_by(told, levels):
     """The tree of what it tells, of at most so many levels."""
-    # The levels are counted down, as the puts are below, so that no thing leads into too deep calls.
-    if levels == 0 or not has_form(told) or told[0] != "tree" or not isinstance(told[2], tuple):
+    # The levels are counted down, as the puts are below, so that no thing leads into too deep calls, nor, as it
+    # may have one thing at very many places, into too many of them.
+    if levels == 0 or not has_form(told) or told[0] != "tree":
+        raise NoPlan(told)
+    if not isinstance(told[2], tuple) or len(told[2]) > MOST_WAYS:
         raise NoPlan(told)
     return Tree(told[1], [tree_by(way, levels - 1) for way in told[2]])
 

@@ -512,6 +512,14 @@ class Telling(Refusals):
         for thing in (tree, put, wide, ("tree", "a", wide), ("lots", wide, wide), ("grid", wide)):
             self.refused_with(NoPlan, thing, plan_of, thing)
 
+    def test_one_thing_at_very_many_places(self):
+        thing = ("tree", "a", ())
+        for turn in range(3):
+            thing = ("tree", "a", (thing,) * 4100)
+            self.refused_with(NoPlan, thing, plan_of, thing)
+            put = ("put", "a", thing, thing)
+            self.refused_with(NoPlan, put, plan_of, put)
+
     def test_things_far_deeper(self):
         tree = ("tree", "a", ())
         one = other = ("many", 1, ("a",))

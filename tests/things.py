@@ -4,8 +4,10 @@ import itertools
 import random
 import unittest
 
+from alwaysmeet.desk import Desk
 from alwaysmeet.errors import Apart, MeetError, NoHouse, NoUndo
 from alwaysmeet.houses import Houses
+from alwaysmeet.keeping import Kept
 from alwaysmeet.plans import Lots, Many, Tree
 from alwaysmeet.systems import System
 from alwaysmeet.twokinds import Two
@@ -35,6 +37,8 @@ def other_things():
         Many(1, ["mill", "inn"]),
         Tree("mill"),
         Two(System(["a", "b"], [["a"]]), System(["a", "b"], [["b", "a"]])),
+        Kept(Two(System(["a"], [["a"]]), System(["a"], [["a"]]))),
+        Desk(),
         MeetError("a"),
         NoHouse("a"),
         NoUndo(),
